@@ -1,0 +1,1 @@
+"""Keptabroad: deeds over several houses, each of which keeps any of its cards when it falls."""
