@@ -1,6 +1,6 @@
 """A second account of points 4 to 9, told from the whole row at once, and rows to try it on.
 
-It looks up in the row what the program keeps in a state, so that the two have no step in common.
+It looks up in the row what the program keeps in a state; of the program it uses plain alone, for the words.
 """
 
 from keptabroad.deeds import plain
