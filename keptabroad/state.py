@@ -1,4 +1,4 @@
-"""What holds behind a row: houses, deeds, cards and letters."""
+"""What holds behind a row: houses, deeds, cards, marks and letters."""
 
 from keptabroad.checks import is_tuple
 from keptabroad.deeds import check_homes, houses_of, things_of, written
@@ -14,15 +14,21 @@ class State:
     """The state behind a row, which takes one event after the other."""
 
     def __init__(self, homes):
+        houses = houses_of(homes)
         self.homes = homes
-        self.is_up = [True] * houses_of(homes)
+        self.is_up = [True] * houses
         self.is_gone = []
         self.needed = []
         self.leaned = []
         self.wrote = []
         # Only cards of standing deeds are held: those of gone deeds are of no account.
         self.safety = {}
-        self.receivers = []
+        # The marks of a house that is down are of no account: it has new ones when it comes up.
+        self.marks = [[0] * houses for _ in range(houses)]
+        # For each house the number of deeds done when it last came up.
+        self.done_at_up = [0] * houses
+        # The receiver of each letter, and the marks in it.
+        self.letters = []
 
     def allows(self, event):
         """Whether a value that is an event can come now."""
@@ -30,7 +36,7 @@ class State:
         if kind == "do":
             return all([self.is_up[self.homes[thing]] for thing in things_of(event[1:])])
         if kind == "hear":
-            return event[1] < len(self.receivers) and self.is_up[self.receivers[event[1]]]
+            return event[1] < len(self.letters) and self.is_up[self.letters[event[1]][0]]
         if kind == "up":
             return not self.is_up[event[1]]
         if kind == "fall":
@@ -43,13 +49,15 @@ class State:
         if kind == "do":
             self.do_deed(event[1:])
         elif kind == "sync":
-            self.set_safety(self.cards_at(event[1], UNSAFE), SAFE)
+            self.sync(event[1])
         elif kind == "fall":
             self.fall(event[1], event[2])
         elif kind == "up":
             self.rise(event[1])
         elif kind == "send":
-            self.receivers.append(event[2])
+            self.letters.append((event[2], tuple(self.marks[event[1]])))
+        else:
+            self.hear(event[1])
 
     def standing(self):
         """The deeds done that are not gone, ascending."""
@@ -66,6 +74,11 @@ class State:
     def unsafe_cards(self):
         """The cards of standing deeds that are unsafe, or lost and not called yet, ascending."""
         return sorted([card for card, its in self.safety.items() if its != SAFE])
+
+    def open_cards(self, house, deeds):
+        """The cards of some deeds that are not known safe to a house, ascending if the deeds are."""
+        known = self.marks[house]
+        return [(deed, thing) for deed in deeds for thing, _ in self.wrote[deed] if deed >= known[self.homes[thing]]]
 
     def can_keep(self, house, keep):
         """Whether a house that falls now can keep these cards."""
@@ -105,6 +118,11 @@ class State:
                 last[thing] = deed
         return last
 
+    def sync(self, house):
+        """Makes all cards at a house safe."""
+        self.set_safety(self.cards_at(house, UNSAFE), SAFE)
+        self.marks[house][house] = len(self.is_gone)
+
     def fall(self, house, keep):
         """Lets a house fall."""
         self.set_safety(self.cards_at(house, UNSAFE), LOST)
@@ -114,10 +132,25 @@ class State:
     def rise(self, house):
         """Lets a house come up and call its lost cards."""
         self.is_up[house] = True
+        self.mark_up(house)
         lost = self.cards_at(house, LOST)
         for deed in self.standing():
             if any([other in self.leaned[deed] for other, _ in lost]):
                 self.lose(deed)
+
+    def mark_up(self, house):
+        """Sets the marks behind the up of a house: its own, and those that other houses have of it."""
+        done = len(self.is_gone)
+        self.done_at_up[house] = done
+        self.marks[house] = list(self.done_at_up)
+        for other, is_up in enumerate(self.is_up):
+            if is_up:
+                self.marks[other][house] = done
+
+    def hear(self, letter):
+        """Lets the house to which a letter was sent hear it."""
+        house, told = self.letters[letter]
+        self.marks[house] = [max(own, new) for own, new in zip(self.marks[house], told)]
 
     def lose(self, deed):
         """Makes a deed gone, with all its cards."""

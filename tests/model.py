@@ -1,7 +1,9 @@
-"""A second account of points 4 to 9, told from the whole row at once, and rows to try it on.
+"""A second account of points 4 to 16, told from the whole row at once, and rows to try it on.
 
 It looks up in the row what the program keeps in a state; of the program it uses plain alone, for the words.
 """
+
+from itertools import combinations, product
 
 from keptabroad.deeds import plain
 
@@ -13,6 +15,20 @@ class Told:
         self.homes = homes
         self.row = row
         self.places = [place for place, event in enumerate(row) if event[0] == "do"]
+        self.houses = range(max(homes) + 1)
+        self.memory = {}
+
+    def once(self, key, tell):
+        """What tell tells, remembered under a key."""
+        if key not in self.memory:
+            self.memory[key] = tell()
+        return self.memory[key]
+
+    def then(self, events):
+        """The account of the row with more events behind it: what was told of the row stays true."""
+        longer = Told(self.homes, self.row + events)
+        longer.memory = {key: self.memory[key] for key in self.memory if key[0] in ("gone", "leans", "marks")}
+        return longer
 
     def writes(self, deed):
         return [write[0] for write in self.row[self.places[deed]][2]]
@@ -36,7 +52,7 @@ class Told:
     def leans(self, deed):
         found = {deed}
         for other in self.needs(deed):
-            found |= self.leans(other)
+            found |= self.leans_of(other)
         return found
 
     def safety(self, card, end):
@@ -51,6 +67,9 @@ class Told:
         return "unsafe"
 
     def gone(self, end):
+        return self.once(("gone", end), lambda: self.gone_behind(end))
+
+    def gone_behind(self, end):
         found = set()
         for place in range(end):
             if self.row[place][0] != "up":
@@ -63,11 +82,7 @@ class Told:
         return found
 
     def leans_of(self, deed):
-        if not hasattr(self, "memory"):
-            self.memory = {}
-        if deed not in self.memory:
-            self.memory[deed] = self.leans(deed)
-        return self.memory[deed]
+        return self.once(("leans", deed), lambda: self.leans(deed))
 
     def standing(self, end):
         return [deed for deed in self.done(end) if deed not in self.gone(end)]
@@ -82,6 +97,113 @@ class Told:
 
     def words(self, end):
         return plain(self.homes, tuple(self.row[self.places[deed]][1:] for deed in self.standing(end)))
+
+    def marks(self, house, end):
+        """The marks of a house behind the first events, told from the last of these back."""
+        if end == 0:
+            return [0 for _ in self.houses]
+        return list(self.once(("marks", house, end), lambda: self.marks_behind(house, end, self.row[end - 1])))
+
+    def marks_behind(self, house, end, event):
+        found = self.marks(house, end - 1)
+        if event[0] == "sync" and event[1] == house:
+            found[house] = len(self.done(end))
+        if event[0] == "up" and self.is_up(house, end):
+            found[event[1]] = len(self.done(end))
+        if event == ("up", house):
+            found = [self.done_at_up(other, end) for other in self.houses]
+        if event[0] == "hear":
+            place = [place for place, sent in enumerate(self.row) if sent[0] == "send"][event[1]]
+            if self.row[place][2] == house:
+                letter = self.marks(self.row[place][1], place)
+                found = [max(pair) for pair in zip(found, letter)]
+        return found
+
+    def done_at_up(self, house, end):
+        places = [place for place in range(end) if self.row[place] == ("up", house)]
+        return len(self.done(places[-1])) if places else 0
+
+    def unknown(self, house, deeds):
+        """The cards of deeds that are not known safe to a house behind the whole row, ascending."""
+        known = self.marks(house, len(self.row))
+        return sorted((deed, thing) for deed in deeds for thing in self.writes(deed)
+                      if not deed < known[self.homes[thing]])
+
+    def known_sure(self, house):
+        return [deed for deed in self.standing(len(self.row)) if not self.unknown(house, self.leans_of(deed))]
+
+    def is_alike(self, other, house):
+        mine, its = len(self.row), len(other.row)
+        return ([event for event in self.row if event[0] == "do"] == [event for event in other.row if event[0] == "do"]
+                and self.gone(mine) == other.gone(its)
+                and all(self.is_up(each, mine) == other.is_up(each, its) for each in self.houses)
+                and self.marks(house, mine) == other.marks(house, its))
+
+    def unsafe_at(self, house, end):
+        """The unsafe cards at a house, without those lost."""
+        return [card for card in self.unsafe(end)
+                if self.homes[card[1]] == house and self.safety(card, end) == "unsafe"]
+
+    def doubt_of(self, house, card):
+        """The pair of point 13 for a card that is not known safe to a house."""
+        home = self.homes[card[1]]
+        most = self.marks(house, len(self.row))[home]
+        one = [event for place, event in enumerate(self.row)
+               if event != ("sync", home) or len(self.done(place)) <= most]
+        falls = [place for place, event in enumerate(one) if event[:2] == ("fall", home)]
+        up = self.is_up(home, len(self.row))
+        place = len(one) if up else falls[-1]
+        kept = [other for other in Told(self.homes, one).unsafe_at(home, place) if other != card]
+        fall = ("fall", home, tuple(kept))
+        if up:
+            return tuple(one), (fall, ("up", home))
+        one[place] = fall
+        return tuple(one), (("up", home),)
+
+    def news(self, house, deed):
+        """The best of all syncs of houses that are up and letters of others, None if none does."""
+        found = [rest for known, rest in self.once(("news", house), lambda: self.all_news(house)) if deed in known]
+        return min(found)[2] if found else None
+
+    def all_news(self, house):
+        """For each choice of syncs and letters what is known sure behind it, then its length, senders and events."""
+        ups = [other for other in self.houses if self.is_up(other, len(self.row))]
+        others = [other for other in ups if other != house]
+        letters = len([event for event in self.row if event[0] == "send"])
+        found = []
+        for syncs, senders in product(some_of(ups), some_of(others)):
+            events = tuple(("sync", other) for other in syncs)
+            events += tuple(("send", other, house) for other in senders)
+            events += tuple(("hear", letters + index) for index in range(len(senders)))
+            known = self.then(events).known_sure(house)
+            found.append((known, (len(events), senders, events)))
+        return found
+
+    def cards_of(self, thing):
+        return [(deed, thing) for deed in self.standing(len(self.row)) if thing in self.writes(deed)]
+
+    def why_kept(self, card):
+        """The cards not known safe to the home for which a card must be kept; None for the last one of its thing."""
+        deed, thing = card
+        later = [other for other, _ in self.cards_of(thing) if other > deed]
+        if not later:
+            return None
+        return self.unknown(self.homes[thing], self.leans_of(later[0]) - self.leans_of(deed))
+
+    def must_keep(self, house):
+        cards = [card for thing, home in enumerate(self.homes) if home == house for card in self.cards_of(thing)]
+        return sorted(card for card in cards if self.why_kept(card) != [])
+
+    def lots(self, houses):
+        """What stands behind all ways in which houses can fall now and come up, each lot with its ways."""
+        end = len(self.row)
+        found = {}
+        for keeps in product(*[some_of(self.unsafe_at(house, end)) for house in houses]):
+            events = tuple(("fall", house, keep) for house, keep in zip(houses, keeps))
+            events += tuple(("up", house) for house in houses)
+            lot = tuple(self.then(events).standing(end + len(events)))
+            found.setdefault(lot, []).append(events)
+        return found
 
     def can_come(self, event):
         """Whether something that has the form of an event can come behind the row."""
@@ -101,6 +223,11 @@ class Told:
         return self.is_up(event[1], end)
 
 
+def some_of(items):
+    """All tuples of some of the items, in their order."""
+    return [some for many in range(len(items) + 1) for some in combinations(items, many)]
+
+
 def some_homes(chance):
     return tuple(chance.randint(0, 3) for _ in range(chance.randint(1, 6)))
 
@@ -110,11 +237,14 @@ def some_things(chance, homes, least):
     return sorted(chance.sample(things, chance.randint(least, min(3, len(homes)))))
 
 
-def some_event(chance, told):
+KINDS = ("do",) * 8 + ("sync", "fall", "up", "up", "send", "hear")
+
+
+def some_event(chance, told, kinds=KINDS):
     """Something that has the form of an event; often it can come."""
     homes, end = told.homes, len(told.row)
     house = chance.randint(0, max(homes))
-    kind = chance.choice(["do"] * 8 + ["sync", "fall", "up", "up", "send", "hear"])
+    kind = chance.choice(kinds)
     if kind == "do":
         writes = [(thing, chance.choice(["word", "sum"]), chance.choice([0, 1, 5, 500, 999]))
                   for thing in some_things(chance, homes, 1)]

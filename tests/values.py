@@ -171,3 +171,112 @@ WRONG_EVENTS = NOT_TUPLES + [
 ] + [
     ("fall", value, ()) for value in NOT_INTEGERS + [-1, 3, 64]
 ]
+
+# Values that are no houses of HOMES.
+WRONG_HOUSE = NOT_INTEGERS + [-1, 3, 4, 64, 10 ** 30]
+
+# Values that are no ascending tuples of unlike houses of HOMES.
+WRONG_HOUSES = NOT_TUPLES + [
+    (3,),
+    (-1,),
+    (0, 3),
+    (True,),
+    (False,),
+    (False, 1),
+    (0, True),
+    (None,),
+    ("0",),
+    ([0],),
+    ((0,),),
+    ((),),
+    ({},),
+    (KeepError("x"),),
+    (0, 0),
+    (1, 0),
+    (0, 2, 1),
+    (0, 1, 1),
+    (0, 1, 2, 3),
+    (0, 1, 2, 2),
+    (0, None),
+]
+
+# Values that are not cards of a thing behind EVENTS.
+WRONG_CARDS = NOT_TUPLES + [
+    (),
+    (0,),
+    (0, 0, 0),
+    [0, 0],
+    ((0, 0),),
+    ((0, 0), (2, 0)),
+    (False, 0),
+    (0, False),
+    (True, 1),
+    (1, True),
+    ("0", 0),
+    (0, "0"),
+    (None, 0),
+    (0, None),
+    ([], 0),
+    (0, []),
+    ({}, 0),
+    (0, {}),
+    ((0,), 0),
+    (0, (0,)),
+    (0, KeepError("x")),
+    (-1, 0),
+    (-3, 0),
+    (0, -1),
+    (0, -3),
+    (3, 0),
+    (0, 3),
+    (64, 0),
+    (10 ** 30, 0),
+    (1, 0),
+    (0, 1),
+    (0, 2),
+    (2, 1),
+]
+
+# Values that are no lots, whatever stands.
+WRONG_LOTS = NOT_TUPLES + [
+    (False,),
+    (False, True),
+    (False, True, 2),
+    (0, True, 2),
+    (None,),
+    ("0",),
+    ([],),
+    ([0],),
+    ((0,),),
+    ((0,), (0, 1, 2)),
+    ({},),
+    (0, 1, None),
+    (KeepError("x"),),
+    [0, 1, 2],
+    {0: 1},
+    (-1,),
+    (3,),
+    (0, 1, 2, 3),
+    (0, 0),
+    (0, 0, 1, 2),
+    (1, 0),
+    (2, 1, 0),
+    (0, 2, 1),
+    (64,),
+    (10 ** 30,),
+]
+
+
+def word(thing, n, *reads):
+    """The event of a deed that writes a word into one thing."""
+    return "do", tuple(reads), ((thing, "word", n),)
+
+
+def write(*things):
+    """The event of a deed that writes words into several things."""
+    return "do", (), tuple((thing, "word", 1) for thing in things)
+
+
+def read(thing, *reads):
+    """The event of a deed that reads some things and writes a sum into one."""
+    return "do", tuple(reads), ((thing, "sum", 1),)
