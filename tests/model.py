@@ -238,6 +238,8 @@ def some_things(chance, homes, least):
 
 
 KINDS = ("do",) * 8 + ("sync", "fall", "up", "up", "send", "hear")
+# Kinds for rows in which more is known.
+LETTERS = ("do",) * 6 + ("sync", "sync", "fall", "up", "up", "send", "hear", "hear")
 
 
 def some_event(chance, told, kinds=KINDS):
@@ -260,3 +262,13 @@ def some_event(chance, told, kinds=KINDS):
     if kind == "hear":
         return "hear", chance.randint(0, 5)
     return kind, house
+
+
+def some_row(chance, homes, many):
+    """A row that some of many events can make, and in which more is known."""
+    told = Told(homes, ())
+    for _ in range(many):
+        event = some_event(chance, told, LETTERS)
+        if told.can_come(event):
+            told = Told(homes, told.row + (event,))
+    return told.row

@@ -7,20 +7,8 @@ from keptabroad.errors import BadLot, NotMade, NotNow
 from keptabroad.keeps import must_keep, newest
 from keptabroad.knows import alike_to, doubt, known_sure, marks, news
 from keptabroad.lots import exposed, keep_for, lots
-from keptabroad.rows import can_come, standing, sure
-from tests.model import Told, some_event, some_homes, some_of
-
-KINDS = ("do",) * 6 + ("sync", "sync", "fall", "up", "up", "send", "hear", "hear")
-
-
-def some_row(chance, homes, many):
-    """A row that some of many events can make."""
-    row = ()
-    for _ in range(many):
-        event = some_event(chance, Told(homes, row), KINDS)
-        if can_come(homes, row, event):
-            row += (event,)
-    return row
+from keptabroad.rows import standing, sure
+from tests.model import Told, some_homes, some_of, some_row
 
 
 class ManyRows(unittest.TestCase):

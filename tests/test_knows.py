@@ -411,6 +411,12 @@ class DoubtWhereTheHomeIsDown(DoubtCase):
         self.check(HOMES, row, 1, 1, one, (("up", 0),))
         self.check(HOMES, row, 1, 2, one, (("up", 0),))
 
+    def test_other_events_behind_the_fall_that_tell_the_number_of_the_house(self):
+        letters = (("send", 0, 2), ("send", 2, 0), ("hear", 1))
+        row = EVENTS + (word(1, 9), ("sync", 0), ("fall", 1, ())) + letters
+        one = EVENTS + (word(1, 9), ("sync", 0), ("fall", 1, ((3, 1),))) + letters
+        self.check(HOMES, row, 0, 1, one, (("up", 1),))
+
     def test_falls_of_other_houses_stay(self):
         row = EVENTS + (("fall", 2, ()), ("fall", 0, ()))
         self.check(HOMES, row, 1, 0, EVENTS + (("fall", 2, ()), ("fall", 0, ((2, 0),))), (("up", 0),))

@@ -123,8 +123,9 @@ class Language(unittest.TestCase):
 
     def test_docstrings_tell_what_each_part_is(self):
         for place, node in nodes():
-            if isinstance(node, (ast.Module, ast.ClassDef, ast.FunctionDef)) and getattr(node, "name", "") != "__init__":
-                self.assertIsNotNone(ast.get_docstring(node), place)
+            if isinstance(node, (ast.Module, ast.ClassDef, ast.FunctionDef)):
+                if getattr(node, "name", "") != "__init__":
+                    self.assertIsNotNone(ast.get_docstring(node), place)
 
 
 if __name__ == "__main__":
